@@ -1,0 +1,1 @@
+"""Bellwrite: messages by the times of bells."""
