@@ -27,7 +27,14 @@ def can_come(row, reading, late):
 
 
 def alike(one, other, late):
-    return reading_of_both(one, other, late) is not None
+    if len(one) != len(other):
+        return False
+    # Each bell of both may be heard with the later one of its two, if that is not too late for the earlier one.
+    # So no reading need be made, and a long list of rows is soon walked through pair by pair.
+    for first, second in zip(one, other):
+        if abs(first - second) > late:
+            return False
+    return True
 
 
 def reading_of_both(one, other, late):

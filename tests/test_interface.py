@@ -13,6 +13,24 @@ ARGUMENTS = {
         "alike": "one other late",
         "reading_of_both": "one other late",
     },
+    "boxes": {
+        "box_of": "row late",
+        "bell_row": "box late",
+        "heard_box": "reading late",
+        "box_count": "turns bells late",
+    },
+    "messages": {
+        "box_number": "box",
+        "box_of_message": "message bells",
+        "written": "message turns bells late",
+        "read": "reading turns bells late",
+    },
+    "crowds": {"keeps_apart": "rows late", "crowd": "rows late", "bell_rows": "turns bells late"},
+    "openly": {
+        "open_count": "turns most late",
+        "written_openly": "message turns most late",
+        "read_openly": "reading turns most late",
+    },
 }
 
 

@@ -27,6 +27,14 @@ WORDS_OUT = re.compile(
     r"\b(type|typing|typing_extensions|enum|Enum|IntEnum|StrEnum|Flag|IntFlag|Generic|Protocol|ABC|ABCMeta|"
     r"namedtuple|NamedTuple|TypedDict|TYPE_CHECKING|abstractmethod)\b|dataclass|overload|contextmanager"
 )
+WALKED_AT_ONCE = set("zip enumerate reversed range".split())
+WALKING_METHODS = set("items keys values".split())
+WALKERS = set("list tuple dict sorted sum any all enumerate zip min max join".split())
+METHODS = set(
+    "append clear copy count endswith extend find get index insert isalnum isalpha isdigit islower isspace isupper "
+    "items join keys ljust lower lstrip partition pop remove replace reverse rfind rjust rpartition rsplit rstrip "
+    "setdefault split splitlines startswith strip update upper values zfill bit_length".split()
+)
 NAMES_OUT = set("register mro elements open input version_info with_traceback add_note format format_map sort".split())
 
 
@@ -45,6 +53,42 @@ def bound_names(text):
     names += [alias.asname or alias.name for node in nodes(text, ast.ImportFrom) for alias in node.names]
     names += [node.name for node in nodes(text, ast.ExceptHandler) if node.name]
     return names
+
+
+def imported_names(text):
+    return [alias.name for node in nodes(text, ast.ImportFrom) for alias in node.names]
+
+
+def inner_names(text):
+    """The parameters and locals of a file's defs."""
+    names = [node.arg for node in nodes(text, ast.arg)]
+    for function in nodes(text, (ast.FunctionDef, ast.Lambda)):
+        names += [node.id for node in ast.walk(function)
+                  if isinstance(node, ast.Name) and isinstance(node.ctx, ast.Store)]
+    return names
+
+
+def attributes_of_its_own(text):
+    stored = [node.attr for node in nodes(text, ast.Attribute) if isinstance(node.ctx, ast.Store)]
+    return stored + [part.name for node in nodes(text, ast.ClassDef) for part in node.body
+                     if isinstance(part, ast.FunctionDef)]
+
+
+def called_name(call):
+    return getattr(call.func, "id", None) or getattr(call.func, "attr", None)
+
+
+def walks_kept(text):
+    """Calls that ought to be walked where they stand, and are not."""
+    every = list(ast.walk(ast.parse(text)))
+    calls = [node for node in every if isinstance(node, ast.Call)]
+    walked = [node.iter for node in every if isinstance(node, (ast.For, ast.comprehension))]
+    for call in calls:
+        if called_name(call) in WALKERS:
+            walked += call.args if called_name(call) == "zip" else call.args[:1]
+    ought = [call for call in calls if getattr(call.func, "id", None) in WALKED_AT_ONCE
+             or getattr(call.func, "attr", None) in WALKING_METHODS]
+    return [ast.unparse(call) for call in ought if call not in walked]
 
 
 class Form(unittest.TestCase):
@@ -100,6 +144,41 @@ class Form(unittest.TestCase):
                 self.assertNotIn("*", [alias.name for alias in node.names])
         self.for_each_file(check)
         self.assertEqual(nodes((PACKAGE / "__init__.py").read_text(), ast.ImportFrom), [])
+
+    def test_no_two_files_draw_from_one_another(self):
+        draws = {f"bellwrite.{name[:-3]}": {node.module for node in nodes(text, ast.ImportFrom)}
+                 for name, text in sources()}
+        while draws:
+            ready = [name for name, drawn in draws.items() if not drawn & set(draws)]
+            self.assertTrue(ready, f"these draw from one another: {sorted(draws)}")
+            for name in ready:
+                draws.pop(name)
+
+    def test_names_come_from_the_file_that_defines_them(self):
+        def check(text):
+            for node in nodes(text, ast.ImportFrom):
+                drawn = (PACKAGE.parent / (node.module.replace(".", "/") + ".py")).read_text(encoding="utf-8")
+                defined = set(bound_names(drawn)) - set(imported_names(drawn))
+                for alias in node.names:
+                    self.assertIn(alias.name, defined)
+        self.for_each_file(check)
+
+    def test_inner_names_are_no_imports_or_classes(self):
+        def check(text):
+            outer = imported_names(text) + [node.name for node in nodes(text, ast.ClassDef)]
+            self.assertEqual([name for name in inner_names(text) if name in outer], [])
+        self.for_each_file(check)
+
+    def test_walked_at_once(self):
+        self.for_each_file(lambda text: self.assertEqual(walks_kept(text), []))
+
+    def test_methods(self):
+        own = [name for _, text in sources() for name in attributes_of_its_own(text)]
+
+        def check(text):
+            for node in nodes(text, ast.Attribute):
+                self.assertTrue(node.attr in METHODS or node.attr in own, node.attr)
+        self.for_each_file(check)
 
     def test_definitions(self):
         def check(text):

@@ -1,26 +1,13 @@
 """Promises [7] to [10], and [2] and [3] as far as they speak of rows and readings."""
 
 import unittest
-from itertools import combinations, combinations_with_replacement, product
+from itertools import combinations, product
 
 from bellwrite.errors import BellError, NoRow
 from bellwrite.rows import alike, can_come, heard, reading_of_both, row_of
+from listing import all_heard, readings_up_to, rows_of, rows_up_to
 
 GREAT = 10 ** 59
-
-
-def rows_up_to(turns, bells):
-    return [list(row) for many in range(bells + 1) for row in combinations(range(turns), many)]
-
-
-def readings_up_to(below, bells):
-    return [list(reading) for many in range(bells + 1)
-            for reading in combinations_with_replacement(range(below), many)]
-
-
-def all_heard(row, late):
-    delays = product(range(late + 1), repeat=len(row))
-    return {tuple(sorted(turn + delay for turn, delay in zip(row, some))) for some in delays}
 
 
 class Rows(unittest.TestCase):
@@ -188,7 +175,7 @@ class Alike(unittest.TestCase):
 
     def test_just_where_some_reading_can_come_of_both(self):
         for bells in range(4):
-            rows = [list(row) for row in combinations(range(6), bells)]
+            rows = rows_of(6, bells)
             for late in range(4):
                 possible = [all_heard(row, late) for row in rows]
                 for one, heard_of_one in zip(rows, possible):
@@ -221,6 +208,12 @@ class Alike(unittest.TestCase):
     def test_each_row_may_be_the_later_one_by_turns(self):
         self.assert_alike([0, 5, 6], [2, 3, 8], 2, True)
         self.assert_alike([0, 5, 6], [2, 3, 8], 1, False)
+
+    def test_not_as_many_bells(self):
+        for late in (0, 5, GREAT):
+            self.assert_alike([], [0], late, False)
+            self.assert_alike([0, 3], [0], late, False)
+            self.assert_alike([0, 3], [0, 3, 4], late, False)
 
     def test_long_rows(self):
         one = [4 * k for k in range(600)]

@@ -1,0 +1,67 @@
+"""Promise [4], as far as one rope with a known lag goes: all messages are read again, and there are no more."""
+
+import unittest
+from itertools import combinations, product
+
+from bellwrite.boxes import box_count
+from bellwrite.crowds import bell_rows, crowd, keeps_apart
+from bellwrite.messages import read, written
+from bellwrite.openly import open_count, read_openly, written_openly
+from bellwrite.rows import can_come, heard
+from listing import frames_up_to, rows_of, rows_up_to
+
+
+def lists_of_more_than(rows, count):
+    """Lists of one row more than the count: all of them where they are few, else some from all over."""
+    some = list(combinations(rows[:10], count + 1)) if count < 6 else []
+    for shift in range(len(rows)):
+        shifted = rows[shift:] + rows[:shift]
+        some.append(shifted[:count + 1])
+        some.append(shifted[::-1][:count + 1])
+    return [list(chosen) for chosen in some if len(chosen) == count + 1]
+
+
+class Whole(unittest.TestCase):
+    def assert_crowded(self, rows, late):
+        told = crowd(rows, late)
+        self.assertIsNotNone(told, (rows, late))
+        first, second, reading = told
+        self.assertLess(first, second)
+        self.assertTrue(can_come(rows[first], reading, late))
+        self.assertTrue(can_come(rows[second], reading, late))
+        self.assertFalse(keeps_apart(rows, late))
+
+    def test_whatever_the_road_makes_of_a_message_is_read_as_it(self):
+        for turns, bells, late in frames_up_to(6, 4, 3):
+            for message in range(box_count(turns, bells, late)):
+                row = written(message, turns, bells, late)
+                for delays in product(range(late + 1), repeat=bells):
+                    self.assertEqual(read(heard(row, list(delays)), turns, bells, late), message)
+
+    def test_whatever_the_road_makes_of_an_open_message_is_read_as_it(self):
+        for turns, most, late in frames_up_to(5, 5, 2):
+            for message in range(open_count(turns, most, late)):
+                row = written_openly(message, turns, most, late)
+                for delays in product(range(late + 1), repeat=len(row)):
+                    self.assertEqual(read_openly(heard(row, list(delays)), turns, most, late), message)
+
+    def test_no_way_of_writing_has_more_messages(self):
+        for turns, bells, late in frames_up_to(6, 4, 3):
+            for rows in lists_of_more_than(rows_of(turns, bells), box_count(turns, bells, late)):
+                self.assert_crowded(rows, late)
+
+    def test_no_open_way_of_writing_has_more_messages(self):
+        for turns, most, late in frames_up_to(5, 4, 3):
+            for rows in lists_of_more_than(rows_up_to(turns, most), open_count(turns, most, late)):
+                self.assert_crowded(rows, late)
+
+    def test_one_row_more_than_the_bell_rows_makes_a_crowd(self):
+        for turns, bells, late in frames_up_to(6, 4, 3):
+            rows = bell_rows(turns, bells, late)
+            self.assertIsNone(crowd(rows, late))
+            for row in rows_of(turns, bells):
+                self.assert_crowded(rows + [row], late)
+
+
+if __name__ == "__main__":
+    unittest.main()
