@@ -27,5 +27,8 @@ def heard_box(reading, late):
 def box_count(turns, bells, late):
     if bells > turns:
         return 0
-    greatest = (turns - bells) // (late + 1)
-    return choose(greatest + bells, bells)
+    return choose(greatest_part(turns, bells, late) + bells, bells)
+
+
+def greatest_part(turns, bells, late):
+    return (turns - bells) // (late + 1)

@@ -12,14 +12,21 @@ def choose(n, k):
 
 
 def top_of(k, number):
-    top = above_top(k, number)
+    return top_from(above_top(k, number), k, number)
+
+
+def top_from(start, k, number):
+    # The start must be no less than the top.
+    top = start
     ways = choose(top, k)
     while ways > number:
-        # Going one down from here takes off choose(top - 1, k - 1), and each further one takes off no more.
-        # So every n that the step leaps over has more choices than the number: the top is never missed.
-        most_off = choose(top - 1, k - 1)
-        top = top - rounded_up(ways - number, most_off)
-        ways = choose(top, k)
+        # Going one down from here takes off choose(top - 1, k - 1), the k-fold ways divided by the top, and
+        # each further one takes off no more. So every n that the step leaps over has more choices than the number:
+        # the top is never missed.
+        most_off = ways * k // top
+        step = rounded_up(ways - number, most_off)
+        top = top - step
+        ways = ways - most_off if step == 1 else choose(top, k)
     return top
 
 

@@ -1,7 +1,7 @@
 """Messages: whole numbers, each written in a frame as the bell row of the box that bears its number."""
 
 from bellwrite.boxes import bell_row, box_count, heard_box
-from bellwrite.choices import choose, top_of
+from bellwrite.choices import above_top, choose, top_from
 from bellwrite.errors import NoReading, TooGreat
 
 
@@ -14,9 +14,11 @@ def box_of_message(message, bells):
         raise TooGreat("no box of so many bells has that number")
     box = [0] * bells
     left = message
+    top = message + bells
     for place in range(bells - 1, -1, -1):
         # All places below add up to less than one step of this part, so it is the greatest one that fits.
-        top = top_of(place + 1, left)
+        # As no part is above the next one, each top is below the one before, which is often a near start.
+        top = top_from(min(top - 1, above_top(place + 1, left)), place + 1, left)
         box[place] = top - place
         left = left - choose(top, place + 1)
     return box

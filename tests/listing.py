@@ -38,6 +38,15 @@ def all_heard(row, late):
     return {tuple(sorted(turn + delay for turn, delay in zip(row, some))) for some in delays}
 
 
+def talk_frames_up_to(turns, bells, late):
+    """The frames in which talks are rung: with a bell at least and no more bells than turns."""
+    return [frame for frame in frames_up_to(turns, bells, late) if 1 <= frame[1] <= frame[0]]
+
+
+def talks_of(count, many):
+    return [list(talk) for talk in product(range(count), repeat=many)]
+
+
 def refusal_of(function, *handed):
     """The class of the refusal, None where nothing is refused; what is handed in must stay as it was."""
     before = deepcopy(handed)

@@ -4,6 +4,8 @@ import importlib
 import inspect
 import unittest
 
+from bellwrite.hearers import Hearer, KeenHearer
+
 ARGUMENTS = {
     "choices": {"choose": "n k", "top_of": "k number"},
     "rows": {
@@ -31,17 +33,34 @@ ARGUMENTS = {
         "written_openly": "message turns most late",
         "read_openly": "reading turns most late",
     },
+    "talks": {"rung": "messages turns bells late", "talk_heard": "reading many turns bells late"},
+    "hearers": {"Hearer": "turns bells late", "KeenHearer": "turns bells late"},
+    "frames": {"shortest_frame": "bells late many", "best_bells": "turns late most"},
+    "notes": {
+        "note_number": "note",
+        "note_of": "number",
+        "parts": "number base",
+        "number_of_parts": "figures base",
+        "sent": "note turns bells late",
+        "received": "reading turns bells late",
+    },
 }
 
 
 class Interface(unittest.TestCase):
-    def test_functions_and_their_arguments(self):
+    def test_functions_and_classes_and_their_arguments(self):
         for file, functions in ARGUMENTS.items():
             module = importlib.import_module(f"bellwrite.{file}")
             for name, arguments in functions.items():
                 with self.subTest(f"{file}.{name}"):
                     parameters = inspect.signature(getattr(module, name)).parameters
                     self.assertEqual(list(parameters), arguments.split())
+
+    def test_the_turn_of_a_hearer(self):
+        for made in (Hearer, KeenHearer):
+            parameters = inspect.signature(made.turn).parameters
+            self.assertEqual(list(parameters), ["self", "many"])
+            self.assertEqual(parameters["many"].default, 0)
 
 
 if __name__ == "__main__":

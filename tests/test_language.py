@@ -68,10 +68,16 @@ def inner_names(text):
     return names
 
 
-def attributes_of_its_own(text):
-    stored = [node.attr for node in nodes(text, ast.Attribute) if isinstance(node.ctx, ast.Store)]
-    return stored + [part.name for node in nodes(text, ast.ClassDef) for part in node.body
-                     if isinstance(part, ast.FunctionDef)]
+def values_of_objects(text):
+    return [node.attr for node in nodes(text, ast.Attribute) if isinstance(node.ctx, ast.Store)]
+
+
+def methods_of(kind):
+    return [part.name for part in kind.body if isinstance(part, ast.FunctionDef)]
+
+
+def methods_of_objects(text):
+    return [name for kind in nodes(text, ast.ClassDef) for name in methods_of(kind)]
 
 
 def called_name(call):
@@ -173,11 +179,23 @@ class Form(unittest.TestCase):
         self.for_each_file(lambda text: self.assertEqual(walks_kept(text), []))
 
     def test_methods(self):
-        own = [name for _, text in sources() for name in attributes_of_its_own(text)]
+        own = [name for _, text in sources() for name in values_of_objects(text) + methods_of_objects(text)]
 
         def check(text):
             for node in nodes(text, ast.Attribute):
                 self.assertTrue(node.attr in METHODS or node.attr in own, node.attr)
+        self.for_each_file(check)
+
+    def test_methods_and_values_of_objects(self):
+        values = [name for _, text in sources() for name in values_of_objects(text)]
+        methods = [name for _, text in sources() for name in methods_of_objects(text)]
+        self.assertEqual([name for name in values if name in methods], [])
+        for name in values:
+            self.assertFalse(any(hasattr(kind, name) for kind in (str, int, list, tuple, dict, set, bytes)), name)
+
+        def check(text):
+            for kind in nodes(text, ast.ClassDef):
+                self.assertEqual(len(methods_of(kind)), len(set(methods_of(kind))), kind.name)
         self.for_each_file(check)
 
     def test_definitions(self):
@@ -216,7 +234,9 @@ class Form(unittest.TestCase):
         def check(text):
             bound = bound_names(text)
             for name in bound:
-                self.assertTrue(name in OWN_METHODS or not name.startswith("_"), name)
+                if name in OWN_METHODS:
+                    continue
+                self.assertFalse(name.startswith("_"), name)
                 self.assertFalse(hasattr(builtins, name), name)
                 self.assertNotIn(name, NAMES_OUT)
             for node in nodes(text, ast.Name):

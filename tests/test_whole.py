@@ -5,10 +5,12 @@ from itertools import combinations, product
 
 from bellwrite.boxes import box_count
 from bellwrite.crowds import bell_rows, crowd, keeps_apart
+from bellwrite.hearers import Hearer, KeenHearer
 from bellwrite.messages import read, written
 from bellwrite.openly import open_count, read_openly, written_openly
 from bellwrite.rows import can_come, heard
-from listing import frames_up_to, rows_of, rows_up_to
+from bellwrite.talks import rung, talk_heard
+from listing import all_heard, frames_up_to, rows_of, rows_up_to, talk_frames_up_to, talks_of
 
 
 def lists_of_more_than(rows, count):
@@ -19,6 +21,20 @@ def lists_of_more_than(rows, count):
         some.append(shifted[:count + 1])
         some.append(shifted[::-1][:count + 1])
     return [list(chosen) for chosen in some if len(chosen) == count + 1]
+
+
+def told_by(hearer, reading, turns):
+    """All messages that a hearer tells, each with the turn in which it does so."""
+    return [(turn, message) for turn in range(turns) for message in hearer.turn(reading.count(turn))]
+
+
+def first_clear_turn(reading, readings):
+    """The first turn at whose end what was heard begins the readings of one message alone."""
+    for turn in range(reading[-1] + 1):
+        heard_of_it = [heard for heard in reading if heard <= turn]
+        possible = {message for message, other in readings if [heard for heard in other if heard <= turn] == heard_of_it}
+        if len(possible) == 1:
+            return turn
 
 
 class Whole(unittest.TestCase):
@@ -44,6 +60,26 @@ class Whole(unittest.TestCase):
                 row = written_openly(message, turns, most, late)
                 for delays in product(range(late + 1), repeat=len(row)):
                     self.assertEqual(read_openly(heard(row, list(delays)), turns, most, late), message)
+
+    def test_whatever_the_road_makes_of_a_talk_is_heard_as_it(self):
+        for turns, bells, late in talk_frames_up_to(4, 2, 2):
+            many = 3 if bells == 1 else 2
+            for talk in talks_of(box_count(turns, bells, late), many):
+                row = rung(talk, turns, bells, late)
+                for delays in product(range(late + 1), repeat=len(row)):
+                    reading = heard(row, list(delays))
+                    self.assertEqual(talk_heard(reading, many, turns, bells, late), talk)
+                    for make in (Hearer, KeenHearer):
+                        told = told_by(make(turns, bells, late), reading, many * (turns + late))
+                        self.assertEqual([message for _, message in told], talk)
+
+    def test_a_keen_hearer_tells_a_message_as_soon_as_no_other_one_is_possible(self):
+        for turns, bells, late in talk_frames_up_to(6, 3, 2):
+            readings = [(message, list(reading)) for message in range(box_count(turns, bells, late))
+                        for reading in all_heard(written(message, turns, bells, late), late)]
+            for message, reading in readings:
+                told = told_by(KeenHearer(turns, bells, late), reading, turns + late)
+                self.assertEqual(told, [(first_clear_turn(reading, readings), message)])
 
     def test_no_way_of_writing_has_more_messages(self):
         for turns, bells, late in frames_up_to(6, 4, 3):
