@@ -47,6 +47,22 @@ def talks_of(count, many):
     return [list(talk) for talk in product(range(count), repeat=many)]
 
 
+def small_belfries():
+    """Belfries of no rope, one, two and three, ropes without bells and with more bells than turns among them."""
+    frames = [(0, 0, 0), (3, 0, 1), (1, 2, 0), (2, 1, 0), (3, 1, 1), (4, 2, 1), (3, 2, 0), (4, 1, 2), (2, 2, 2)]
+    pairs = [list(pair) for pair in product(frames, repeat=2)]
+    return [[]] + [[frame] for frame in frames] + pairs + [list(three) for three in combinations(frames[3:], 3)]
+
+
+def peals_of(frames):
+    return [[list(row) for row in peal] for peal in product(*[rows_of(turns, bells) for turns, bells, _ in frames])]
+
+
+def all_peals_heard(peal, frames):
+    possible = [all_heard(row, late) for row, (_, _, late) in zip(peal, frames)]
+    return [[list(reading) for reading in readings] for readings in product(*possible)]
+
+
 def refusal_of(function, *handed):
     """The class of the refusal, None where nothing is refused; what is handed in must stay as it was."""
     before = deepcopy(handed)

@@ -4,6 +4,7 @@ import importlib
 import inspect
 import unittest
 
+from bellwrite.desk import Desk
 from bellwrite.hearers import Hearer, KeenHearer
 
 ARGUMENTS = {
@@ -44,6 +45,20 @@ ARGUMENTS = {
         "sent": "note turns bells late",
         "received": "reading turns bells late",
     },
+    "ropes": {
+        "belfry_count": "frames",
+        "peal_written": "message frames",
+        "peal_read": "readings frames",
+        "peals_alike": "one other frames",
+        "peal_crowd": "peals frames",
+    },
+    "lags": {
+        "keyed_count": "turns bells late",
+        "keyed": "message turns bells late",
+        "unkeyed": "reading turns bells late",
+    },
+    "costs": {"cheapest": "many late turn_cost bell_cost most"},
+    "desk": {"Desk": ""},
 }
 
 
@@ -61,6 +76,9 @@ class Interface(unittest.TestCase):
             parameters = inspect.signature(made.turn).parameters
             self.assertEqual(list(parameters), ["self", "many"])
             self.assertEqual(parameters["many"].default, 0)
+
+    def test_what_a_desk_is_told(self):
+        self.assertEqual(list(inspect.signature(Desk.told).parameters), ["self", "order"])
 
 
 if __name__ == "__main__":

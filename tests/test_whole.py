@@ -1,4 +1,4 @@
-"""Promise [4], as far as one rope with a known lag goes: all messages are read again, and there are no more."""
+"""Promise [4], the whole of it: all messages are read again, and there are no more."""
 
 import unittest
 from itertools import combinations, product
@@ -6,11 +6,14 @@ from itertools import combinations, product
 from bellwrite.boxes import box_count
 from bellwrite.crowds import bell_rows, crowd, keeps_apart
 from bellwrite.hearers import Hearer, KeenHearer
+from bellwrite.lags import keyed, keyed_count, unkeyed
 from bellwrite.messages import read, written
 from bellwrite.openly import open_count, read_openly, written_openly
+from bellwrite.ropes import belfry_count, peal_crowd, peal_read, peal_written, peals_alike
 from bellwrite.rows import can_come, heard
 from bellwrite.talks import rung, talk_heard
-from listing import all_heard, frames_up_to, rows_of, rows_up_to, talk_frames_up_to, talks_of
+from listing import (SIXTY_FIGURES, all_heard, all_peals_heard, frames_up_to, peals_of, rows_of, rows_up_to,
+                     small_belfries, talk_frames_up_to, talks_of)
 
 
 def lists_of_more_than(rows, count):
@@ -73,6 +76,21 @@ class Whole(unittest.TestCase):
                         told = told_by(make(turns, bells, late), reading, many * (turns + late))
                         self.assertEqual([message for _, message in told], talk)
 
+    def test_whatever_the_roads_make_of_a_peal_is_read_as_its_message(self):
+        for frames in small_belfries():
+            for message in range(belfry_count(frames)):
+                for readings in all_peals_heard(peal_written(message, frames), frames):
+                    self.assertEqual(peal_read(readings, frames), message)
+
+    def test_whatever_the_lag_is_keyed_rows_are_read(self):
+        for turns, bells, late in frames_up_to(7, 4, 2):
+            for message in range(keyed_count(turns, bells, late)):
+                row = keyed(message, turns, bells, late)
+                for delays in product(range(late + 1), repeat=bells):
+                    for lag in (0, 1, 2, 3, 11, SIXTY_FIGURES):
+                        reading = [turn + lag for turn in heard(row, list(delays))]
+                        self.assertEqual(unkeyed(reading, turns, bells, late), message)
+
     def test_a_keen_hearer_tells_a_message_as_soon_as_no_other_one_is_possible(self):
         for turns, bells, late in talk_frames_up_to(6, 3, 2):
             readings = [(message, list(reading)) for message in range(box_count(turns, bells, late))
@@ -90,6 +108,18 @@ class Whole(unittest.TestCase):
         for turns, most, late in frames_up_to(5, 4, 3):
             for rows in lists_of_more_than(rows_up_to(turns, most), open_count(turns, most, late)):
                 self.assert_crowded(rows, late)
+
+    def test_no_way_of_ringing_several_ropes_has_more_messages(self):
+        for frames in small_belfries():
+            for peals in lists_of_more_than(peals_of(frames), belfry_count(frames)):
+                told = peal_crowd(peals, frames)
+                self.assertIsNotNone(told, (peals, frames))
+                first, second, readings = told
+                self.assertLess(first, second)
+                self.assertIs(peals_alike(peals[first], peals[second], frames), True)
+                for peal in (peals[first], peals[second]):
+                    for row, reading, (_, _, late) in zip(peal, readings, frames):
+                        self.assertTrue(can_come(row, reading, late))
 
     def test_one_row_more_than_the_bell_rows_makes_a_crowd(self):
         for turns, bells, late in frames_up_to(6, 4, 3):
